@@ -1,0 +1,430 @@
+"""What the tests share: odd things, spoilt things, small and great words and webs, and plain
+searches that follow the document's words and nothing else, against which the program is held."""
+
+import functools
+import itertools
+import random
+
+KINDS = ("firm", "late", "steady")
+
+
+# Odd things
+
+class Prickly:
+    """Whoever compares, hashes, measures or walks through it, or asks it for its truth, is hurt."""
+
+    def hurt(self, *told):
+        raise RuntimeError("touched")
+
+    __eq__ = __ne__ = __lt__ = __le__ = __gt__ = __ge__ = hurt
+    __hash__ = __len__ = __iter__ = __bool__ = __getitem__ = __contains__ = hurt
+
+
+def nested(make, depth):
+    thing = make(())
+    for _ in range(depth - 1):
+        thing = make((thing,))
+    return thing
+
+
+def odd_things():
+    """New ones each time, for some of them can be changed."""
+    return [
+        None, True, False, -1, -7, 10 ** 399, -(10 ** 399), "", "a", "-1", "0", "a b", "ab\n", "None",
+        "x" * 20000, b"", b"a", [], [1], ["a"], [("a",)], {}, {"a": 1}, {0: 0}, set(), {1, 2}, frozenset((0,)),
+        (), (None,), (True,), ([],), ((),), ("a", 1), (("a",), ("b",)), ({},), range(3), iter(()),
+        len, int, tuple, object(), Ellipsis, NotImplemented, ValueError("x"), Prickly(), (Prickly(),),
+        (Prickly(), Prickly()), ("so", Prickly()), nested(tuple, 20), nested(list, 20), (0,) * 3000, [0] * 3000,
+        ("a",) * 3000,
+    ]
+
+
+def no_numbers(many):
+    """What is none of the numbers from 0 to many - 1."""
+    odd = [thing for thing in odd_things() if not (type(thing) is int and 0 <= thing < many)]
+    return odd + [many, many + 1, "0", (0,), [0], {0}, b"0"]
+
+
+def spoilt(thing):
+    """Things that are like this one but for one part: another one in its place, dropped, twice, swapped."""
+    yield from odd_things()
+    if is_int(thing):
+        yield from (thing - 1, thing + 1, str(thing), (thing,), bool(thing), -thing - 1)
+    if type(thing) is str:
+        yield from (thing + "a", thing.upper(), thing.encode(), (thing,), thing[:-1])
+    if type(thing) is tuple:
+        yield list(thing)
+        yield (thing,)
+        for odd in odd_things():
+            yield thing + (odd,)
+        for at, part in enumerate(thing):
+            yield thing[:at] + thing[at + 1:]
+            yield thing[:at] + (part,) + thing[at:]
+            if at:
+                yield thing[:at - 1] + (part, thing[at - 1]) + thing[at + 1:]
+            for other in spoilt(part):
+                yield thing[:at] + (other,) + thing[at + 1:]
+
+
+def look(thing):
+    """A text that tells a thing with all its parts, so that a change of it shows."""
+    if isinstance(thing, (list, tuple)):
+        return f"{type(thing).__name__}({','.join(look(part) for part in thing)})"
+    if isinstance(thing, dict):
+        return f"dict({','.join(look(part) for part in thing.items())})"
+    if isinstance(thing, Prickly):
+        return "prickly"
+    return f"{type(thing).__name__}:{thing!r}"
+
+
+def refused(test, error, value, call, *args, **named):
+    """The call is refused by this very class, with that very value."""
+    with test.assertRaises(error) as caught:
+        call(*args, **named)
+    test.assertIs(type(caught.exception), error)
+    (held,) = vars(caught.exception).values()
+    if held is not value:
+        test.assertEqual((type(held), held), (type(value), value))
+
+
+# Words
+
+def rows_of(names, longest):
+    """All rows of these names, to the longest."""
+    for size in range(longest + 1):
+        yield from itertools.product(names, repeat=size)
+
+
+SMALL_WORDS = tuple(rows_of("ab", 4)) + tuple(rows_of("abc", 3)) + tuple(map(tuple, (
+    "abcab", "abcba", "aabaa", "ababa", "abaab", "aabab", "abbab", "aaaaa")))
+
+
+def great_words():
+    """Words of twelve names, and some a little shorter."""
+    told = ["aaaaaaaaaaaa", "abcdefghijkl", "abababababab", "aabbaabbaabb", "abcabcabcabc", "aaaaaabbbbbb",
+            "abcdefabcdef", "abcdeffedcba", "aaaaaaaaaaab", "baaaaaaaaaaa", "abaababaabaa", "abacabadabac",
+            "aabaabaabaab", "abcdefghijka", "aabcdefghijk", "abcdefghijkk", "ababababab", "abcabcabcab"]
+    rng = random.Random(12)
+    told += ["".join(rng.choice("abcd"[:names]) for _ in range(12)) for names in (2, 3, 4) for _ in range(8)]
+    long_names = {"a": "a", "b": "bbbbbb", "c": "ab", "d": "abc"}
+    return [tuple(word) for word in told] + [tuple(long_names[name] for name in word) for word in told[-6:]]
+
+
+def plain_backs(word, place):
+    if place == 0:
+        return []
+    return [other for other in range(len(word) + 1) if 1 <= other < place and word[other - 1] == word[place - 1]]
+
+
+def plain_courses(word, row, place):
+    """All courses, by trying all places."""
+    if not row:
+        return [()] if place == len(word) else []
+    found = []
+    for at in [place] + plain_backs(word, place):
+        if at < len(word) and word[at] == row[0]:
+            if len(row) == 1:
+                found += [(at,)] if at + 1 == len(word) else []
+            else:
+                found += [(at,) + rest for rest in plain_courses(word, row[1:], at + 1)]
+    return found
+
+
+def least_course(word, row, place):
+    """The least course, of rows of any length: from the row's end on the least rest behind each place."""
+    if not row:
+        return () if place == len(word) else None
+    best = {}
+    for number in reversed(range(len(row))):
+        new = {}
+        for at in range(len(word)):
+            if word[at] != row[number]:
+                continue
+            if number == len(row) - 1:
+                if at + 1 == len(word):
+                    new[at] = (at,)
+            else:
+                rests = [best[to] for to in [at + 1] + plain_backs(word, at + 1) if to in best]
+                if rests:
+                    new[at] = (at,) + min(rests)
+        best = new
+    return min([best[at] for at in [place] + plain_backs(word, place) if at in best], default=None)
+
+
+@functools.lru_cache(maxsize=None)
+def places_behind(word, places, name):
+    """All places that one may have come to behind one name more, without winding back then."""
+    all_places = set(places)
+    for place in places:
+        all_places.update(plain_backs(word, place))
+    return frozenset(at + 1 for at in all_places if at < len(word) and word[at] == name)
+
+
+class Counted:
+    """How many wound rows there are to a size, by the sets of all the places that one may be at."""
+
+    def __init__(self, word, size):
+        self.word = word
+        self.names = sorted(set(word))
+        self.begin = frozenset((0,))
+        sets = [self.begin]
+        for places in sets:
+            sets += [further for further in self.onward(places) if further not in sets]
+        self.counts = [{places: int(len(word) in places) for places in sets}]
+        for _ in range(size):
+            ahead = self.counts[-1]
+            self.counts.append({places: sum(ahead[further] for further in self.onward(places)) for places in sets})
+
+    def onward(self, places):
+        return [places_behind(self.word, places, name) for name in self.names]
+
+    def count(self, size):
+        return self.counts[size][self.begin]
+
+    def number(self, row):
+        """How many wound rows of this size are less than this one."""
+        less = 0
+        places = self.begin
+        for at, name in enumerate(row):
+            for other in self.names:
+                if other < name:
+                    less += self.counts[len(row) - at - 1][places_behind(self.word, places, other)]
+            places = places_behind(self.word, places, name)
+        return less
+
+
+def lacks(word, kind, row):
+    """Whether the row doesn't begin with the word, end with it, have it as a stretch."""
+    many = len(word)
+    if kind == "firm":
+        return row[:many] != word
+    if kind == "late":
+        return row[len(row) - many:] != word if len(row) >= many else True
+    return not any(row[at:at + many] == word for at in range(len(row) - many + 1))
+
+
+def plain_seen(word, kind, row):
+    """Point 9, to the letter."""
+    if kind == "firm":
+        if row[:len(word)] == word:
+            return len(word)
+        return len(row) if word[:len(row)] == row else -1
+    if kind == "steady" and not lacks(word, "steady", row):
+        return len(word)
+    return max(many for many in range(min(len(word), len(row)) + 1) if row[len(row) - many:] == word[:many])
+
+
+def seen_then(word, kind, seen, name):
+    """What is seen behind a row of which this was seen, and this name."""
+    row = ("other",) if seen == -1 else word[:seen]
+    assert plain_seen(word, kind, row) == seen
+    return plain_seen(word, kind, row + (name,))
+
+
+def plain_lacking(word, kind):
+    """The least of the shortest wound rows that lack the word so, by going through all rows that differ
+    in the places that one may be at or in what is seen, to more names than there are such."""
+    rows = {(frozenset((0,)), 0): ()}
+    known = dict(rows)
+    while rows:
+        bad = [row for (places, seen), row in rows.items() if len(word) in places and lacks(word, kind, row)]
+        if bad:
+            return min(bad)
+        further = {}
+        for (places, seen), row in rows.items():
+            for name in sorted(set(word)):
+                longer = row + (name,)
+                key = (places_behind(word, places, name), plain_seen(word, kind, longer))
+                if key[0] and key not in known:
+                    further[key] = min(longer, further.get(key, longer))
+        known.update(further)
+        rows = further
+    return None
+
+
+# Webs
+
+def is_int(thing):
+    return type(thing) is int
+
+
+def is_plain_name(thing):
+    return type(thing) is str and len(thing) in range(1, 7) and set(thing) <= set("abcdefghijklmnopqrstuvwxyz")
+
+
+def plain_rising(thing, n):
+    """A rising tuple of unlike crossings."""
+    return (type(thing) is tuple and all(is_int(part) for part in thing) and set(thing) <= set(range(n))
+            and thing == tuple(sorted(set(thing))))
+
+
+def plain_web(thing):
+    """Point 10, to the letter."""
+    if type(thing) is not tuple or len(thing) != 2:
+        return False
+    n, posts = thing
+    if not is_int(n) or n not in range(41) or type(posts) is not tuple or len(posts) > 120:
+        return False
+    for post in posts:
+        if type(post) is not tuple or len(post) != 3:
+            return False
+        if not is_int(post[0]) or post[0] not in range(n) or not is_plain_name(post[1]):
+            return False
+        if not plain_rising(post[2], n) or len(post[2]) not in range(1, 9):
+            return False
+    return len({post[:2] for post in posts}) == len(posts) and sorted(posts) == list(posts)
+
+
+def make_web(n, posts):
+    """A web of posts told as {(crossing, name): arms}."""
+    return (n, tuple(sorted((crossing, name, tuple(sorted(arms))) for (crossing, name), arms in posts.items())))
+
+
+def some_web(rng, n, names, most_posts, most_arms, near=None):
+    """A web by chance, its arms, where near is told, not further off than that."""
+    spots = [(crossing, name) for crossing in range(n) for name in names]
+    posts = {}
+    for crossing, name in rng.sample(spots, min(len(spots), most_posts)):
+        pool = range(n) if near is None else [(crossing + step) % n for step in range(near)]
+        posts[crossing, name] = rng.sample(pool, rng.randint(1, min(most_arms, len(pool))))
+    return make_web(n, posts)
+
+
+def small_webs(many):
+    """Small webs with few worlds, those without posts or crossings among them."""
+    rng = random.Random(3)
+    webs = [(0, ()), (1, ()), (3, ()), (1, ((0, "a", (0,)),)), (2, ((0, "a", (0, 1)), (0, "b", (1,)), (1, "a", (0,))))]
+    while len(webs) < many:
+        web = some_web(rng, rng.randint(1, 3), "ab", rng.randint(1, 6), 3)
+        if len(worlds_of(web)) <= 27:
+            webs.append(web)
+    return webs
+
+
+def great_webs():
+    """Webs of 40 crossings and 120 posts, some of which have eight arms, with words of twelve names and goals."""
+    rng = random.Random(40)
+    told = []
+    for most_arms, near in ((1, None), (1, 3), (2, 3), (2, None), (3, 4), (8, 8), (8, None), (8, 9)):
+        web = some_web(rng, 40, "abc", 120, most_arms, near)
+        for goals in (None, (), tuple(range(30)), tuple(sorted(rng.sample(range(40), 34))), (0, 39)):
+            told.append((web, tuple(rng.choice("abc") for _ in range(12)), goals))
+    eights = make_web(40, {(c, name): {(c + step) % 40 for step in range(8)} for c in range(40) for name in "abc"})
+    onward = make_web(40, {(c, name): {min(39, c + step) for step in range(1, 9)} for c in range(40) for name in "abc"})
+    round_and_round = make_web(40, {(c, name): {(c + 1) % 40} for c in range(40) for name in "abc"})
+    for word in ("abcabcabcabc", "aabbccaabbcc", "aaaaaaaaaaaa", "abccbaabccba"):
+        for goals in (None, (), (39,), tuple(range(20, 40)), tuple(range(8, 40))):
+            told += [(web, tuple(word), goals) for web in (eights, onward, round_and_round)]
+    return told
+
+
+def some_goals(web):
+    return (None, (), (0,)[:web[0]], tuple(range(web[0]))[1:])
+
+
+def worlds_of(web):
+    """All worlds of a web, rising."""
+    return sorted(itertools.product(*(arms for _, _, arms in web[1])))
+
+
+def some_world(rng, web):
+    return tuple(rng.choice(arms) for _, _, arms in web[1])
+
+
+def plain_arm(web, world, crossing, name):
+    """The arm that is right, in a list, [] where no post stands."""
+    return [arm for post, arm in zip(web[1], world) if post[0] == crossing and post[1] == name]
+
+
+def plain_gone(web, world, start, row):
+    told = (start,)
+    for name in row:
+        arm = plain_arm(web, world, told[-1], name)
+        if not arm:
+            return told
+        told += tuple(arm)
+    return told
+
+
+def plain_goals(web, goals):
+    return set(range(web[0])) if goals is None else set(goals)
+
+
+def further_walks(web, world, word, crossing, place):
+    """All steps from there, as (place, crossing)."""
+    return [(at, arm) for at in [place] + plain_backs(word, place) if at < len(word)
+            for arm in plain_arm(web, world, crossing, word[at])]
+
+
+def plain_walks(web, world, word, crossing, place, goals, most):
+    """All wound walks from there that end well, to so many steps, those of each size by themselves."""
+    begun = [((), crossing, place)]
+    for _ in range(most + 1):
+        yield [walk for walk, here, at in begun if at == len(word) and here in plain_goals(web, goals)]
+        begun = [(walk + (step,), step[1], step[0] + 1) for walk, here, at in begun
+                 for step in further_walks(web, world, word, here, at)]
+
+
+def plain_walk(web, world, word, crossing, place, goals):
+    """The least of the shortest ones; a shortest one is never twice at one crossing and place."""
+    for walks in plain_walks(web, world, word, crossing, place, goals, web[0] * len(word) + 1):
+        if walks:
+            return min(walks)
+    return None
+
+
+def least_walks(web, world, word, goals):
+    """The least of the shortest walks from each (crossing, place), in webs of any size, by their ends."""
+    pairs = [(crossing, place) for crossing in range(web[0]) for place in range(len(word) + 1)]
+    onward = {pair: further_walks(web, world, word, *pair) for pair in pairs}
+    best = {(crossing, len(word)): () for crossing in plain_goals(web, goals)}
+    fresh = best
+    while fresh:
+        new = {}
+        for pair in pairs:
+            if pair not in best:
+                walks = [((at, to),) + fresh[to, at + 1] for at, to in onward[pair] if (to, at + 1) in fresh]
+                if walks:
+                    new[pair] = min(walks)
+        best = {**best, **new}
+        fresh = new
+    return best
+
+
+def plain_rounds(web, word, goals):
+    """Point 16, round by round, to the letter."""
+    pairs = [(crossing, place) for crossing in range(web[0]) for place in range(len(word) + 1)]
+    arms = {(crossing, name): arms for crossing, name, arms in web[1]}
+    told = []
+    earlier = set()
+    fresh = {(crossing, len(word)) for crossing in plain_goals(web, goals)}
+    while fresh:
+        fresh |= {(c, j) for c, j in pairs
+                  if any((c, i) in fresh or (c, i) in earlier for i in plain_backs(word, j))}
+        fresh -= earlier
+        told.append(tuple(sorted(fresh)))
+        earlier |= fresh
+        fresh = {(c, i) for c, i in pairs if i < len(word) and (c, word[i]) in arms and (c, i) not in earlier
+                 and all((d, i + 1) in earlier for d in arms[c, word[i]])}
+    return tuple(told)
+
+
+def paper_faults(web, word, goals, paper):
+    """The rows of a paper of marks that have no ground by the rows ahead of them, or come twice."""
+    arms = {(crossing, name): arms for crossing, name, arms in web[1]}
+    ahead = set()
+    faults = []
+    for row in paper:
+        crossing, place, ground = row
+        stands = False
+        if ground == ("end",):
+            stands = place == len(word) and crossing in plain_goals(web, goals)
+        elif ground == ("post",):
+            post = arms.get((crossing, word[place]), ()) if place < len(word) else ()
+            stands = bool(post) and all((arm, place + 1) in ahead for arm in post)
+        elif ground[0] == "back" and len(ground) == 2:
+            stands = ground[1] in plain_backs(word, place) and (crossing, ground[1]) in ahead
+        if not stands or (crossing, place) in ahead:
+            faults.append(row)
+        ahead.add((crossing, place))
+    return faults
