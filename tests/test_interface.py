@@ -1,0 +1,94 @@
+"""The interface: every name stands in its file, with its arguments; and the words of point 2 that hold of all."""
+
+import ast
+import importlib
+import inspect
+import pathlib
+import unittest
+
+from tests.helper import look
+
+PACKAGE = pathlib.Path(__file__).resolve().parent.parent / "woundwalks"
+
+CALLS = {
+    "words": {"is_row": "(thing)", "is_word": "(thing)", "backs": "(word, place)"},
+    "winding": {
+        "course": "(word, row, *, place=0)", "is_wound": "(word, row, *, place=0)", "count_wound": "(word, size)",
+        "wound_at": "(word, size, number)", "wound_rows": "(word, size)"},
+    "kinds": {"lacking": "(word, kind)", "is_kind": "(word, kind)", "kind_paper": "(word, kind)"},
+    "kindlooks": {"shows_kind": "(word, kind, thing)"},
+    "webs": {"is_web": "(thing)", "arms_of": "(web, crossing, name)", "is_goals": "(web, thing)"},
+    "worlds": {
+        "is_world": "(web, thing)", "count_worlds": "(web)", "world_at": "(web, number)", "number_of": "(web, world)",
+        "gone": "(web, world, start, row)", "starts": "(web, world, row, *, goals=None)"},
+    "walks": {
+        "wound_places": "(web, world, word, *, goals=None)",
+        "wound_walk": "(web, world, word, crossing, *, place=0, goals=None)", "row_of": "(word, walk)"},
+    "walklooks": {"shows_walk": "(web, world, word, crossing, thing, *, place=0, goals=None)"},
+    "marks": {
+        "marks": "(web, word, *, goals=None)", "rounds": "(web, word, *, goals=None)",
+        "round_of": "(web, word, crossing, place, *, goals=None)", "marks_paper": "(web, word, *, goals=None)"},
+}
+
+WEB = (3, ((0, "a", (1, 2)), (1, "b", (2,)), (2, "b", (0, 1))))
+
+# A value for each argument, some of them such as can be changed.
+VALUES = {
+    "word": ("a", "b"), "place": 1, "row": ("a", "b"), "size": 2, "number": 0, "kind": "late", "web": WEB,
+    "crossing": 0, "name": "a", "world": (1, 2, 0), "start": 0, "goals": (0, 2), "walk": ((0, 1), (1, 2)),
+    "thing": ["so", [("a", {"b": [1]})], {"c": [2]}],
+}
+
+TOLD = (tuple, int, str, bool, type(None))
+
+
+def all_calls():
+    for file, calls in CALLS.items():
+        module = importlib.import_module(f"woundwalks.{file}")
+        for name in calls:
+            yield name, getattr(module, name)
+
+
+def only_told_kinds(thing):
+    if type(thing) is tuple:
+        return all(only_told_kinds(part) for part in thing)
+    return type(thing) in TOLD
+
+
+class TestInterface(unittest.TestCase):
+    def test_each_stands_in_its_file(self):
+        for file, calls in CALLS.items():
+            tree = ast.parse((PACKAGE / f"{file}.py").read_text())
+            defined = [node.name for node in tree.body if isinstance(node, ast.FunctionDef)]
+            for name in calls:
+                self.assertIn(name, defined, file)
+
+    def test_arguments(self):
+        for file, calls in CALLS.items():
+            module = importlib.import_module(f"woundwalks.{file}")
+            for name, arguments in calls.items():
+                self.assertEqual(str(inspect.signature(getattr(module, name))), arguments, name)
+
+    def test_by_places_by_names_and_again_the_same_is_told_and_nothing_changed(self):
+        for name, call in all_calls():
+            with self.subTest(name=name):
+                parameters = inspect.signature(call).parameters.values()
+                before = look(VALUES)
+                by_places = [VALUES[one.name] for one in parameters if one.kind == one.POSITIONAL_OR_KEYWORD]
+                alone = {one.name: VALUES[one.name] for one in parameters if one.kind == one.KEYWORD_ONLY}
+                named = {one.name: VALUES[one.name] for one in reversed(list(parameters))}
+                told = call(*by_places, **alone)
+                self.assertEqual(look(call(**named)), look(told))
+                self.assertEqual(look(call(*by_places, **alone)), look(told))
+                self.assertTrue(only_told_kinds(told))
+                self.assertEqual(look(VALUES), before)
+
+    def test_truths_are_told_as_truths(self):
+        for name, call in all_calls():
+            if name.startswith(("is_", "shows_")):
+                named = {one: VALUES[one] for one in inspect.signature(call).parameters}
+                self.assertIs(type(call(**named)), bool, name)
+
+
+if __name__ == "__main__":
+    unittest.main()
