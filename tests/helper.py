@@ -318,6 +318,18 @@ def great_webs():
     return told
 
 
+def sparse_webs():
+    """Webs of 40 crossings and 120 posts, of more NAMEs than stand everywhere, with words of one to twelve names."""
+    rng = random.Random(41)
+    told = []
+    for (most_arms, near), names in itertools.product(((1, None), (2, 3), (3, 4), (8, 8)), ("abcd", "abcdef")):
+        web = some_web(rng, 40, names, 120, most_arms, near)
+        for size in (1, 2, 3, 4, 6, 12):
+            word = tuple(rng.choice(names) for _ in range(size))
+            told.append((web, word, rng.choice((None, tuple(range(20)), tuple(sorted(rng.sample(range(40), 36)))))))
+    return told
+
+
 def some_goals(web):
     return (None, (), (0,)[:web[0]], tuple(range(web[0]))[1:])
 
@@ -428,3 +440,69 @@ def paper_faults(web, word, goals, paper):
             faults.append(row)
         ahead.add((crossing, place))
     return faults
+
+
+def plain_marks(web, word, goals):
+    """The set of all marks."""
+    return set(itertools.chain.from_iterable(plain_rounds(web, word, goals)))
+
+
+def is_plain_paper(web, word, goals, thing):
+    """Point 17, to the letter."""
+    if type(thing) is not tuple:
+        return False
+    for row in thing:
+        if type(row) is not tuple or len(row) != 3 or not is_int(row[0]) or not is_int(row[1]):
+            return False
+        if row[0] not in range(web[0]) or row[1] not in range(len(word) + 1):
+            return False
+        ground = row[2]
+        if type(ground) is not tuple or not ground or type(ground[0]) is not str:
+            return False
+        if any(not is_int(part) for part in ground[1:]):
+            return False
+    return paper_faults(web, word, goals, thing) == []
+
+
+def some_paper(rng, web, word, goals, size):
+    """A paper of marks by chance, of at most so many rows: any row that has a ground by those ahead of it."""
+    grounds = [("end",), ("post",)] + [("back", place) for place in range(len(word))]
+    spots = [(crossing, place, ground) for crossing in range(web[0]) for place in range(len(word) + 1)
+             for ground in grounds]
+    rng.shuffle(spots)
+    paper = ()
+    while len(paper) < size:
+        fitting = [row for row in spots if not paper_faults(web, word, goals, paper + (row,))]
+        if not fitting:
+            break
+        paper += (fitting[0],)
+    return paper
+
+
+# Asks
+
+def some_asks(web):
+    """All asks of a small web."""
+    crossings = range(web[0])
+    tuples = [told for size in range(web[0] + 1) for told in itertools.combinations(crossings, size)]
+    return ([("somewhere",)] + [("from", crossing) for crossing in crossings]
+            + [(form, told) for form in ("into", "among") for told in tuples])
+
+
+def plain_fails(web, world, word, ask):
+    """Point 20, to the letter."""
+    ways = {start: plain_gone(web, world, start, word) for start in range(web[0])}
+    ends = {start: way[-1] for start, way in ways.items() if len(way) == len(word) + 1}
+    if ask[0] == "somewhere":
+        return not ends
+    if ask[0] == "from":
+        return ask[1] not in ends
+    if ask[0] == "into":
+        return not any(end in ask[1] for end in ends.values())
+    return not any(start in ask[1] for start in ends)
+
+
+def asked_ones(web, ask):
+    """The asked crossings, and the goals."""
+    crossings = {"from": ask[1:], "among": ask[-1]}.get(ask[0], tuple(range(web[0])))
+    return crossings, ask[1] if ask[0] == "into" else None

@@ -28,6 +28,16 @@ CALLS = {
     "marks": {
         "marks": "(web, word, *, goals=None)", "rounds": "(web, word, *, goals=None)",
         "round_of": "(web, word, crossing, place, *, goals=None)", "marks_paper": "(web, word, *, goals=None)"},
+    "marklooks": {"shows_marks": "(web, word, thing, *, goals=None)"},
+    "worst": {"worst": "(web, word, *, goals=None)", "shows_worst": "(web, word, thing, *, goals=None)"},
+    "asks": {"is_ask": "(web, thing)", "fails": "(web, world, word, ask)", "wanted": "(ask)"},
+    "answers": {"answer": "(web, word, ask)", "by_worlds": "(web, word, ask)", "share": "(web, word, ask)"},
+}
+
+# Of each class its arguments, and the methods that stand in it.
+CLASSES = {
+    "walkers": {"Walker": ("(web, word, crossing, *, place=0, goals=None)", {
+        "wants": "(self)", "come": "(self, arm)", "walk": "(self)"})},
 }
 
 WEB = (3, ((0, "a", (1, 2)), (1, "b", (2,)), (2, "b", (0, 1))))
@@ -36,7 +46,7 @@ WEB = (3, ((0, "a", (1, 2)), (1, "b", (2,)), (2, "b", (0, 1))))
 VALUES = {
     "word": ("a", "b"), "place": 1, "row": ("a", "b"), "size": 2, "number": 0, "kind": "late", "web": WEB,
     "crossing": 0, "name": "a", "world": (1, 2, 0), "start": 0, "goals": (0, 2), "walk": ((0, 1), (1, 2)),
-    "thing": ["so", [("a", {"b": [1]})], {"c": [2]}],
+    "thing": ["so", [("a", {"b": [1]})], {"c": [2]}], "ask": ("into", (0, 2)),
 }
 
 TOLD = (tuple, int, str, bool, type(None))
@@ -68,6 +78,19 @@ class TestInterface(unittest.TestCase):
             module = importlib.import_module(f"woundwalks.{file}")
             for name, arguments in calls.items():
                 self.assertEqual(str(inspect.signature(getattr(module, name))), arguments, name)
+
+    def test_classes_and_their_methods(self):
+        for file, classes in CLASSES.items():
+            tree = ast.parse((PACKAGE / f"{file}.py").read_text())
+            module = importlib.import_module(f"woundwalks.{file}")
+            for name, (arguments, methods) in classes.items():
+                (body,) = [node.body for node in tree.body if isinstance(node, ast.ClassDef) and node.name == name]
+                defined = [node.name for node in body if isinstance(node, ast.FunctionDef)]
+                made = getattr(module, name)
+                self.assertEqual(str(inspect.signature(made)), arguments)
+                for method, taken in methods.items():
+                    self.assertIn(method, defined)
+                    self.assertEqual(str(inspect.signature(getattr(made, method))), taken)
 
     def test_by_places_by_names_and_again_the_same_is_told_and_nothing_changed(self):
         for name, call in all_calls():

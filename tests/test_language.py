@@ -141,6 +141,13 @@ class TestLanguage(unittest.TestCase):
             if isinstance(node.func, ast.Attribute):
                 self.assertIn(node.func.attr, METHODS | own, name)
 
+    def test_no_name_is_a_method_and_an_attribute(self):
+        own = {part.name for name, node in nodes(ast.ClassDef) for part in node.body if isinstance(part, ast.FunctionDef)}
+        stored = {node.attr for name, node in nodes(ast.Attribute) if isinstance(node.ctx, ast.Store)}
+        self.assertEqual(own & stored, set())
+        for name, node in nodes(ast.Attribute):
+            self.assertIn(node.attr, stored | METHODS | own, name)
+
     def test_statements_and_expressions(self):
         self.assertEqual(nodes(BARRED), [])
         for name, node in nodes(ast.Constant):

@@ -68,3 +68,8 @@ def marks_in(found):
 def round_numbers(found):
     """Of each mark of these rounds the number of its round."""
     return {mark: number for number, fresh in enumerate(found) for mark in fresh}
+
+
+def grounds_in(found):
+    """Of each mark of these rounds its ground."""
+    return {mark: ground for fresh in found for mark, ground in fresh.items()}

@@ -55,6 +55,11 @@ def arms_of(web, crossing, name):
     return ()
 
 
+def posted_arms(web):
+    """Of each post's (crossing, NAME) its arms."""
+    return {post[:2]: post[2] for post in web[1]}
+
+
 def is_goals(web, thing):
     """Whether it is a rising tuple of unlike crossings of the web, or None; of anything as thing."""
     return thing is None or is_crossings(web[0], thing)
