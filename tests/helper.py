@@ -334,6 +334,15 @@ def some_goals(web):
     return (None, (), (0,)[:web[0]], tuple(range(web[0]))[1:])
 
 
+SHORT_WORDS = tuple(rows_of("ab", 3)) + tuple(map(tuple, ("abab", "aaaa", "abba", "ac")))
+
+
+def small_cases(many):
+    """So many small webs, each with short words and goals."""
+    return itertools.chain.from_iterable(
+        itertools.product([web], SHORT_WORDS, some_goals(web)) for web in small_webs(many))
+
+
 def worlds_of(web):
     """All worlds of a web, rising."""
     return sorted(itertools.product(*(arms for _, _, arms in web[1])))
@@ -506,3 +515,161 @@ def asked_ones(web, ask):
     """The asked crossings, and the goals."""
     crossings = {"from": ask[1:], "among": ask[-1]}.get(ask[0], tuple(range(web[0])))
     return crossings, ask[1] if ask[0] == "into" else None
+
+
+# Askers
+
+def plain_asker(thing):
+    """Point 24, to the letter."""
+    if type(thing) is not tuple or len(thing) != 4:
+        return False
+    many, ways, goods, rows = thing
+    if not is_int(many) or many not in range(1, 17) or type(ways) is not tuple or len(ways) > 60:
+        return False
+    for way in ways:
+        if type(way) is not tuple or len(way) != 3 or not is_int(way[0]) or not is_int(way[2]):
+            return False
+        if way[0] not in range(many) or not is_plain_name(way[1]) or way[2] not in range(1, many):
+            return False
+    if list(ways) != sorted(set(ways)) or not plain_rising(goods, many) or type(rows) is not tuple:
+        return False
+    if any(len({name for _, name, to in ways if to == stand}) != 1 for stand in range(1, many)):
+        return False
+    for row in rows:
+        if type(row) is not tuple or len(row) != 2 or type(row[0]) is not str or type(row[1]) is not tuple:
+            return False
+        if any(not is_int(part) for part in row[1]) or len(set(row[1])) != len(row[1]):
+            return False
+        if set(row[1]) != {to for _, name, to in ways if name == row[0]}:
+            return False
+    return [row[0] for row in rows] == sorted({name for _, name, _ in ways})
+
+
+def make_asker(many, ways, goods, orders):
+    """An asker whose ways are told as (stand, name, to) in any order, its rows as {name: stands}."""
+    return (many, tuple(sorted(set(ways))), tuple(sorted(goods)), tuple(sorted(orders.items())))
+
+
+def some_asker(rng, many, names, most_ways):
+    """An asker by chance, its rows in any order."""
+    name_of = {stand: rng.choice(names) for stand in range(1, many)}
+    ways = {(rng.randrange(many), name_of[stand], stand) for stand in name_of}
+    spots = [(stand, name_of[to], to) for stand in range(many) for to in name_of]
+    rng.shuffle(spots)
+    ways |= set(spots[:max(0, most_ways - len(ways))])
+    orders = {}
+    for stand in rng.sample(sorted(name_of), len(name_of)):
+        orders[name_of[stand]] = orders.get(name_of[stand], ()) + (stand,)
+    goods = rng.sample(range(many), rng.choice((0, 1, 1, 1, 2, many // 2, many)) % (many + 1))
+    return make_asker(many, ways, goods, orders)
+
+
+def small_askers(many):
+    """Askers of one to five stands, by words and by chance."""
+    rng = random.Random(24)
+    askers = [(1, (), (), ()), (1, (), (0,), ()), make_asker(2, [(0, "a", 1), (1, "a", 1)], [1], {"a": (1,)}),
+              make_asker(3, [(0, "a", 1), (1, "a", 2)], [1], {"a": (2, 1)}),
+              make_asker(3, [(0, "a", 1), (1, "b", 2)], [0, 2], {"a": (1,), "b": (2,)})]
+    while len(askers) < many:
+        stands = rng.randint(2, 5)
+        askers.append(some_asker(rng, stands, "ab", rng.randint(stands - 1, 2 * stands)))
+    return askers
+
+
+def great_askers():
+    """Askers of 16 stands and as many as 60 ways."""
+    rng = random.Random(60)
+    return [some_asker(rng, 16, names, ways) for names in ("a", "ab", "abc", "abcdef") for ways in (15, 20, 30, 60)]
+
+
+def plain_lower(asker, stand):
+    """The stands to which one may step back from this one."""
+    for _, stands in asker[3]:
+        if stand in stands:
+            return list(stands[:stands.index(stand)])
+    return []
+
+
+def plain_reads(asker, row, stand, plainly):
+    """By trying all that may be done."""
+    here = [stand] + ([] if plainly else plain_lower(asker, stand))
+    if not row:
+        return any(at in asker[2] for at in here)
+    return any(plain_reads(asker, row[1:], to, plainly) for at in here for s, name, to in asker[1]
+               if s == at and name == row[0])
+
+
+def stands_behind(asker, stands, name, plainly):
+    """All stands that one may have come to behind one name more, without stepping back then."""
+    here = set(stands)
+    if not plainly:
+        here.update(*(plain_lower(asker, stand) for stand in stands))
+    return frozenset(to for s, called, to in asker[1] if s in here and called == name)
+
+
+def reads_long(asker, row, stand, plainly):
+    """The same for rows of any length, by the sets of all stands that one may be at."""
+    stands = frozenset((stand,))
+    for name in row:
+        stands = stands_behind(asker, stands, name, plainly)
+    return any(plain_reads(asker, (), at, plainly) for at in stands)
+
+
+def has_plain_stretch(asker, row):
+    return any(reads_long(asker, row[begin:end], 0, True)
+               for begin in range(len(row) + 1) for end in range(begin, len(row) + 1))
+
+
+def plain_unsettled(asker):
+    """The least of the shortest rows that are read and have no stretch that is read plainly, by going through
+    all rows that differ in the stands that one may be at, by stepping back and, begun anywhere, plainly."""
+    names = sorted({name for _, name, _ in asker[1]})
+    rows = {(frozenset((0,)), frozenset((0,))): ()}
+    known = set()
+    while rows:
+        known |= set(rows)
+        fitting = {key: row for key, row in rows.items() if not any(good in key[1] for good in asker[2])}
+        bad = [row for (stands, _), row in fitting.items() if any(plain_reads(asker, (), at, False) for at in stands)]
+        if bad:
+            return min(bad)
+        rows = {}
+        for (stands, plain), row in fitting.items():
+            for name in names:
+                key = (stands_behind(asker, stands, name, False), stands_behind(asker, plain, name, True) | {0})
+                if key not in known:
+                    rows[key] = min(row + (name,), rows.get(key, row + (name,)))
+    return None
+
+
+def plain_asked_places(web, world, asker, goals):
+    """From each (crossing, stand) a search through all that can be come to."""
+    arm = {post[:2]: arm for post, arm in zip(web[1], world)}
+    pairs = list(itertools.product(range(web[0]), range(asker[0])))
+    onward = {(c, s): [(c, lower) for lower in plain_lower(asker, s)]
+              + [(arm[c, name], to) for at, name, to in asker[1] if at == s and (c, name) in arm] for c, s in pairs}
+    ends = {(c, s) for c, s in pairs if c in plain_goals(web, goals) and s in asker[2]}
+    told = set()
+    for pair in pairs:
+        come_to = {pair: True}
+        line = [pair]
+        for here in line:
+            new = [further for further in onward[here] if further not in come_to]
+            come_to.update(dict.fromkeys(new, True))
+            line += new
+        if ends.intersection(line):
+            told.add(pair)
+    return told
+
+
+def plain_asked_marks(web, asker, goals):
+    """The least set, grown until nothing more comes, to the letter of point 26."""
+    pairs = list(itertools.product(range(web[0]), range(asker[0])))
+    arms = {post[:2]: post[2] for post in web[1]}
+    told = {(c, s) for c, s in pairs if s in asker[2] and c in plain_goals(web, goals)}
+    while True:
+        fresh = {(c, s) for s, name, to in asker[1] for c in range(web[0])
+                 if (c, name) in arms and all((d, to) in told for d in arms[c, name])}
+        fresh |= {(c, t) for c, t in pairs if any((c, s) in told for s in plain_lower(asker, t))}
+        if fresh <= told:
+            return told
+        told |= fresh

@@ -32,6 +32,15 @@ CALLS = {
     "worst": {"worst": "(web, word, *, goals=None)", "shows_worst": "(web, word, thing, *, goals=None)"},
     "asks": {"is_ask": "(web, thing)", "fails": "(web, world, word, ask)", "wanted": "(ask)"},
     "answers": {"answer": "(web, word, ask)", "by_worlds": "(web, word, ask)", "share": "(web, word, ask)"},
+    "answerlooks": {"shows_answer": "(web, word, ask, thing)"},
+    "gaps": {"gap": "(word, kind)"},
+    "askers": {
+        "is_asker": "(thing)", "asker_of": "(word)", "reads": "(asker, row, *, stand=0)",
+        "reads_plainly": "(asker, row, *, stand=0)"},
+    "asking": {
+        "asked_places": "(web, world, asker, *, goals=None)", "asked_marks": "(web, asker, *, goals=None)",
+        "asked_worst": "(web, asker, *, goals=None)", "shows_asked": "(web, asker, thing, *, goals=None)"},
+    "settled": {"unsettled": "(asker)", "asked_somewhere": "(web, asker)"},
 }
 
 # Of each class its arguments, and the methods that stand in it.
@@ -47,6 +56,7 @@ VALUES = {
     "word": ("a", "b"), "place": 1, "row": ("a", "b"), "size": 2, "number": 0, "kind": "late", "web": WEB,
     "crossing": 0, "name": "a", "world": (1, 2, 0), "start": 0, "goals": (0, 2), "walk": ((0, 1), (1, 2)),
     "thing": ["so", [("a", {"b": [1]})], {"c": [2]}], "ask": ("into", (0, 2)),
+    "asker": (3, ((0, "a", 1), (1, "a", 1), (1, "b", 2)), (2,), (("a", (1,)), ("b", (2,)))), "stand": 1,
 }
 
 TOLD = (tuple, int, str, bool, type(None))

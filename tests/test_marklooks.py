@@ -5,18 +5,11 @@ import random
 import unittest
 
 from tests.helper import (
-    great_webs, is_plain_paper, look, odd_things, paper_faults, plain_marks, rows_of, small_webs, some_goals,
-    some_paper, spoilt)
+    great_webs, is_plain_paper, look, odd_things, paper_faults, plain_marks, small_cases, some_paper, spoilt)
 from woundwalks.marklooks import shows_marks
 from woundwalks.marks import marks_paper
 
-WORDS = [*rows_of("ab", 3), *map(tuple, ("abab", "aaaa", "abba", "ac"))]
 WEB = (3, ((0, "a", (1, 2)), (1, "b", (2,)), (2, "b", (0, 1))))
-
-
-def small_cases(many):
-    return itertools.chain.from_iterable(
-        itertools.product([web], WORDS, some_goals(web)) for web in small_webs(many))
 
 
 def changed_papers(rng, web, word, paper):

@@ -3,17 +3,9 @@
 import itertools
 import unittest
 
-from tests.helper import (
-    great_webs, paper_faults, plain_goals, plain_rounds, plain_walk, rows_of, small_webs, some_goals, worlds_of)
+from tests.helper import great_webs, paper_faults, plain_goals, plain_rounds, plain_walk, small_cases, worlds_of
 from woundwalks.marks import marks, marks_paper, round_of, rounds
 from woundwalks.walks import wound_places
-
-WORDS = [word for word in rows_of("ab", 3)] + [tuple(word) for word in ("abab", "aaaa", "abba", "ac")]
-
-
-def small_cases(many):
-    return itertools.chain.from_iterable(
-        itertools.product([web], WORDS, some_goals(web)) for web in small_webs(many))
 
 
 def all_cases():

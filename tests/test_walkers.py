@@ -6,18 +6,11 @@ import random
 import unittest
 
 from tests.helper import (
-    great_webs, look, make_web, no_numbers, odd_things, plain_backs, plain_goals, plain_rounds, rows_of, small_webs,
-    some_goals, some_world, sparse_webs)
+    great_webs, look, make_web, no_numbers, odd_things, plain_backs, plain_goals, plain_rounds, small_cases,
+    some_world, sparse_webs)
 from woundwalks.errors import Done, NotArm, NotMarked
 from woundwalks.walkers import Walker
 from woundwalks.walklooks import shows_walk
-
-WORDS = [*rows_of("ab", 3), *map(tuple, ("abab", "aaaa", "abba", "ac"))]
-
-
-def small_cases(many):
-    return itertools.chain.from_iterable(
-        itertools.product([web], WORDS, some_goals(web)) for web in small_webs(many))
 
 
 def round_numbers(web, word, goals):

@@ -5,17 +5,11 @@ import random
 import unittest
 
 from tests.helper import (
-    great_webs, least_walks, look, make_web, odd_things, plain_marks, rows_of, small_webs, some_goals, some_world,
+    great_webs, least_walks, look, make_web, odd_things, plain_marks, small_cases, small_webs, some_goals, some_world,
     sparse_webs, spoilt, worlds_of)
 from woundwalks.worst import shows_worst, worst
 
-WORDS = [*rows_of("ab", 3), *map(tuple, ("abab", "aaaa", "abba", "ac"))]
 WEB = (3, ((0, "a", (1, 2)), (1, "b", (2,)), (2, "b", (0, 1))))
-
-
-def small_cases(many):
-    return itertools.chain.from_iterable(
-        itertools.product([web], WORDS, some_goals(web)) for web in small_webs(many))
 
 
 def plain_places(web, world, word, goals):

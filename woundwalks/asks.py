@@ -1,6 +1,6 @@
 """Asks: from where, and where to, a word is to be walked."""
 
-from woundwalks.webs import is_crossing, is_crossings
+from woundwalks.words import is_below, is_rising_below
 from woundwalks.worlds import starts
 
 WANTED = {"somewhere": "steady", "from": "firm", "into": "late", "among": "firm"}
@@ -15,8 +15,8 @@ def is_ask(web, thing):
     if len(thing) != 2:
         return False
     if thing[0] == "from":
-        return is_crossing(web[0], thing[1])
-    return thing[0] in ("into", "among") and is_crossings(web[0], thing[1])
+        return is_below(web[0], thing[1])
+    return thing[0] in ("into", "among") and is_rising_below(web[0], thing[1])
 
 
 def wanted(ask):

@@ -1,5 +1,6 @@
 """Firm, late and steady words, with papers of it."""
 
+from woundwalks.searching import first_row
 from woundwalks.seeing import NOTHING_SEEN, seen_next
 from woundwalks.winding import greatest_steps
 from woundwalks.words import here_or_back
@@ -8,24 +9,16 @@ from woundwalks.words import here_or_back
 def lacking(word, kind):
     """The shortest, least wound row that lacks the word so, None where the word is of this kind."""
     steps = greatest_steps(word)
-    begin = (0, NOTHING_SEEN)
-    rows = {begin: ()}
-    line = [begin]
-    at = 0
-    # The line holds what is come to by the fewest names first, by the least rows first:
-    # so the first that has ended without the word was come to by the row that is sought.
-    while at < len(line):
-        place, seen = line[at]
-        row = rows[line[at]]
-        if place == len(word) and seen != len(word):
-            return row
-        for name, to in steps[place].items():
-            come_to = (to, seen_next(word, kind, seen, name))
-            if come_to not in rows:
-                rows[come_to] = (*row, name)
-                line.append(come_to)
-        at += 1
-    return None
+
+    def steps_from(here):
+        place, seen = here
+        return [(name, (to, seen_next(word, kind, seen, name))) for name, to in steps[place].items()]
+
+    def has_ended_without(here):
+        place, seen = here
+        return place == len(word) and seen != len(word)
+
+    return first_row((0, NOTHING_SEEN), steps_from, has_ended_without)
 
 
 def is_kind(word, kind):

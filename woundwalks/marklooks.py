@@ -1,7 +1,7 @@
 """Looking at papers of marks."""
 
-from woundwalks.webs import goal_crossings, is_crossing, posted_arms
-from woundwalks.words import backs, is_place, is_whole
+from woundwalks.webs import goal_crossings, posted_arms
+from woundwalks.words import backs, is_below, is_place, is_whole
 
 
 def is_ground(thing):
@@ -18,7 +18,7 @@ def is_paper_row(web, word, thing):
     if not isinstance(thing, tuple) or len(thing) != 3:
         return False
     crossing, place, ground = thing
-    return is_crossing(web[0], crossing) and is_place(word, place) and is_ground(ground)
+    return is_below(web[0], crossing) and is_place(word, place) and is_ground(ground)
 
 
 def post_leads_to(standing, word, crossing, place):

@@ -1,63 +1,77 @@
-"""How marks spread from the goals back through a web, round by round."""
+"""How marks spread from the goals back through a web, round by round: of an asker, or of a word as one."""
 
-from woundwalks.words import backs
+from woundwalks.webs import goal_crossings
+from woundwalks.worlds import right_posts
 
 
-def post_needs(posts, word):
-    """Of each (crossing, place) of a post how many marks it needs, and of each mark by which posts it's needed."""
+def post_needs(posts, ways):
+    """Of each post and way by it how many marks it needs, and of each mark by which of these it's needed."""
     missing = {}
     needed_by = {}
     for crossing, name, arms in posts:
-        for place in range(len(word)):
-            if word[place] == name:
-                missing[(crossing, place)] = len(arms)
+        for stand, called, to in ways:
+            if called == name:
+                missing[(crossing, stand, to)] = len(arms)
                 for arm in arms:
-                    needed_by.setdefault((arm, place + 1), []).append((crossing, place))
+                    needed_by.setdefault((arm, to), []).append((crossing, stand, to))
     return missing, needed_by
 
 
-def places_winding_to(word):
-    """Of each place those, rising, from which one may wind back to it."""
-    winding = [[] for place in range(len(word) + 1)]
-    for place in range(len(word) + 1):
-        for back in backs(word, place):
-            winding[back].append(place)
-    return winding
-
-
 def completed(marked, missing, needed_by):
-    """The (crossing, place), rising, of posts that got the last mark that they need by these."""
-    found = []
+    """The (crossing, stand), rising, of posts and ways that got the last mark that they need by these."""
+    found = {}
     for mark in marked:
-        for post in needed_by.get(mark, ()):
-            missing[post] -= 1
-            if missing[post] == 0:
-                found.append(post)
+        for going in needed_by.get(mark, ()):
+            missing[going] -= 1
+            if missing[going] == 0:
+                found[going[:2]] = True
     return sorted(found)
 
 
-def spread(posts, word, ends):
+def higher_stands(rows):
+    """Of each stand of a row those from which one may step back to it."""
+    return {stand: stands[at + 1:] for name, stands in rows for at, stand in enumerate(stands)}
+
+
+def with_higher(begun, ground, higher, known):
+    """These marks, of this ground, and those, not known yet, that come with them by stepping back."""
+    fresh = {mark: ground for mark in begun}
+    # Who steps back twice could do so at once: so these marks are all that need be looked at.
+    for crossing, back in begun:
+        for stand in higher.get(back, ()):
+            if (crossing, stand) not in known and (crossing, stand) not in fresh:
+                fresh[(crossing, stand)] = ("back", back)
+    return fresh
+
+
+def spread(posts, asker, ends):
     """The rounds of marks that spread from the ends: a list of dicts from each mark to its ground.
 
     Each mark stands behind those that its ground leans on.
     """
-    missing, needed_by = post_needs(posts, word)
-    winding = places_winding_to(word)
+    many, ways, goods, rows = asker
+    missing, needed_by = post_needs(posts, ways)
+    higher = higher_stands(rows)
     known = {}
     found = []
-    fresh = {(crossing, len(word)): ("end",) for crossing in ends}
+    fresh = with_higher([(crossing, good) for crossing in ends for good in goods], ("end",), higher, known)
     while fresh:
         found.append(fresh)
         for mark in fresh:
             known[mark] = True
-        by_posts = [mark for mark in completed(fresh, missing, needed_by) if mark not in known]
-        fresh = {mark: ("post",) for mark in by_posts}
-        # Who winds back twice could do so at once: so the marks by posts are all that need be looked at.
-        for crossing, back in by_posts:
-            for place in winding[back]:
-                if (crossing, place) not in known and (crossing, place) not in fresh:
-                    fresh[(crossing, place)] = ("back", back)
+        begun = [mark for mark in completed(fresh, missing, needed_by) if mark not in known]
+        fresh = with_higher(begun, ("post",), higher, known)
     return found
+
+
+def spread_in_web(web, asker, goals):
+    """The rounds of marks of the web."""
+    return spread(web[1], asker, goal_crossings(web, goals))
+
+
+def spread_in_world(web, world, asker, goals):
+    """The rounds of marks where each post has but its right arm: their numbers are the fewest steps."""
+    return spread(right_posts(web, world), asker, goal_crossings(web, goals))
 
 
 def marks_in(found):

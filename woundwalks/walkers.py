@@ -1,19 +1,19 @@
 """Walkers: they know the web, and are shown each post's arm only when they get there."""
 
+from woundwalks.askers import asker_of
 from woundwalks.errors import Done, NotArm, NotMarked
-from woundwalks.marks import spread_in_web
-from woundwalks.spreading import grounds_in
-from woundwalks.webs import is_crossing, posted_arms
-from woundwalks.words import is_place, is_whole
+from woundwalks.spreading import grounds_in, spread_in_web
+from woundwalks.webs import posted_arms
+from woundwalks.words import is_below, is_place, is_whole
 
 
 class Walker:
     """It begins at a mark and ends well, whatever arms it is shown."""
 
     def __init__(self, web, word, crossing, *, place=0, goals=None):
-        grounds = grounds_in(spread_in_web(web, word, goals))
+        grounds = grounds_in(spread_in_web(web, asker_of(word), goals))
         # No dict is asked for what is no crossing or no place: a truth would be taken for a number there.
-        if not is_crossing(web[0], crossing) or not is_place(word, place) or (crossing, place) not in grounds:
+        if not is_below(web[0], crossing) or not is_place(word, place) or (crossing, place) not in grounds:
             raise NotMarked(crossing, place)
         self.word = word
         self.standing = posted_arms(web)

@@ -1,20 +1,14 @@
 """Wound walks of a word in one world."""
 
-from woundwalks.spreading import marks_in, round_numbers, spread
-from woundwalks.webs import goal_crossings
+from woundwalks.askers import asker_of
+from woundwalks.spreading import marks_in, round_numbers, spread_in_world
 from woundwalks.words import going_places
 from woundwalks.worlds import right_arms
 
 
-def spread_in_world(web, world, word, goals):
-    """The rounds of marks where each post has but its right arm: their numbers are the fewest steps."""
-    posts = [(*post[:2], (arm,)) for post, arm in zip(web[1], world)]
-    return spread(posts, word, goal_crossings(web, goals))
-
-
 def wound_places(web, world, word, *, goals=None):
     """The rising tuple of all (crossing, place) from which a wound walk ends well."""
-    return marks_in(spread_in_world(web, world, word, goals))
+    return marks_in(spread_in_world(web, world, asker_of(word), goals))
 
 
 def least_step(right, fewest, word, crossing, place):
@@ -30,7 +24,7 @@ def least_step(right, fewest, word, crossing, place):
 
 def wound_walk(web, world, word, crossing, *, place=0, goals=None):
     """Of the wound walks from there that end well one of the fewest steps, of these the least; None."""
-    fewest = round_numbers(spread_in_world(web, world, word, goals))
+    fewest = round_numbers(spread_in_world(web, world, asker_of(word), goals))
     if (crossing, place) not in fewest:
         return None
     right = right_arms(web, world)

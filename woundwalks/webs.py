@@ -1,27 +1,15 @@
 """Webs: crossings with posts that have arms; and goals."""
 
-from woundwalks.words import is_name, is_rising, is_whole
+from woundwalks.words import is_below, is_name, is_rising, is_rising_below, is_whole
 
 MOST_CROSSINGS = 40
 MOST_POSTS = 120
 MOST_ARMS = 8
 
 
-def is_crossing(n, thing):
-    """Whether it is one of n crossings; of anything as thing."""
-    return is_whole(thing) and 0 <= thing < n
-
-
-def is_crossings(n, thing):
-    """Whether it is a rising tuple of unlike ones of n crossings; of anything as thing."""
-    if not isinstance(thing, tuple) or not all([is_crossing(n, part) for part in thing]):
-        return False
-    return is_rising(thing)
-
-
 def is_arms(n, thing):
     """Whether it can be the arms of a post in a web of n crossings; of anything as thing."""
-    return is_crossings(n, thing) and 1 <= len(thing) <= MOST_ARMS
+    return is_rising_below(n, thing) and 1 <= len(thing) <= MOST_ARMS
 
 
 def is_post(n, thing):
@@ -29,7 +17,7 @@ def is_post(n, thing):
     if not isinstance(thing, tuple) or len(thing) != 3:
         return False
     crossing, name, arms = thing
-    return is_crossing(n, crossing) and is_name(name) and is_arms(n, arms)
+    return is_below(n, crossing) and is_name(name) and is_arms(n, arms)
 
 
 def is_web(thing):
@@ -62,7 +50,7 @@ def posted_arms(web):
 
 def is_goals(web, thing):
     """Whether it is a rising tuple of unlike crossings of the web, or None; of anything as thing."""
-    return thing is None or is_crossings(web[0], thing)
+    return thing is None or is_rising_below(web[0], thing)
 
 
 def goal_crossings(web, goals):

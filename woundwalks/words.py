@@ -25,6 +25,18 @@ def is_rising(things):
     return all([things[at] < things[at + 1] for at in range(len(things) - 1)])
 
 
+def is_below(many, thing):
+    """Whether it is one of the whole numbers from 0 on below many; of anything as thing."""
+    return is_whole(thing) and 0 <= thing < many
+
+
+def is_rising_below(many, thing):
+    """Whether it is a rising tuple of unlike whole numbers below many; of anything as thing."""
+    if not isinstance(thing, tuple) or not all([is_below(many, part) for part in thing]):
+        return False
+    return is_rising(thing)
+
+
 def is_row(thing):
     """Whether it is a tuple of at most 400 NAMEs; of anything."""
     if not isinstance(thing, tuple) or len(thing) > LONGEST_ROW:

@@ -46,6 +46,11 @@ def right_arms(web, world):
     return {post[:2]: arm for post, arm in zip(web[1], world)}
 
 
+def right_posts(web, world):
+    """The web's posts, each with its right arm alone."""
+    return tuple([(*post[:2], (arm,)) for post, arm in zip(web[1], world)])
+
+
 def gone_by(right, start, row):
     """The crossings from start on that are come to, name by name, by right arms."""
     come_to = [start]
