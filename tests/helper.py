@@ -673,3 +673,202 @@ def plain_asked_marks(web, asker, goals):
         if fresh <= told:
             return told
         told |= fresh
+
+
+# Yards
+
+def plain_word(thing):
+    return type(thing) is tuple and len(thing) <= 12 and all(is_plain_name(part) for part in thing)
+
+
+class PlainYard:
+    """A yard as points 31 and 32 tell it, its marks found anew each time, with what is due at each deed."""
+
+    def __init__(self, n, word=(), goals=None):
+        self.n, self.posts, self.word, self.goals, self.was = n, {}, word, goals, []
+
+    @classmethod
+    def beside(cls, yard):
+        """One that stands as this yard does; what it can take back is told by copies of that one."""
+        other = yard.copied()
+        states = [(other.web(), other.its_word(), other.its_goals())]
+        while len(other):
+            other.back()
+            states.append((other.web(), other.its_word(), other.its_goals()))
+        plain = cls(states[0][0][0])
+        told = [({post[:2]: post[2] for post in web[1]}, word, goals) for web, word, goals in states]
+        plain.posts, plain.word, plain.goals = told[0]
+        plain.was = told[:0:-1]
+        return plain
+
+    def copied(self):
+        other = PlainYard(self.n, self.word, self.goals)
+        other.posts, other.was = dict(self.posts), list(self.was)
+        return other
+
+    def web(self):
+        return make_web(self.n, self.posts)
+
+    def marked(self):
+        return plain_marks(self.web(), self.word, self.goals)
+
+    def crosses(self, thing):
+        return is_int(thing) and 0 <= thing < self.n
+
+    def due(self, deed, args, goals=None):
+        """The class and the values of the refusal that is due, None."""
+        from woundwalks import errors
+        if deed == "back":
+            return None if self.was else (errors.NoBack, {})
+        if deed == "turn_to":
+            if not plain_word(args[0]):
+                return errors.NoWord, {"word": args[0]}
+            if goals is not None and not plain_rising(goals, self.n):
+                return errors.NoGoals, {"goals": goals}
+            return None
+        if not self.crosses(args[0]):
+            return errors.NoCrossing, {"crossing": args[0]}
+        if not is_plain_name(args[1]):
+            return errors.NoName, {"name": args[1]}
+        arms = self.posts.get(args[:2])
+        if deed == "put":
+            if arms is not None:
+                return errors.PostThere, {}
+            if not plain_rising(args[2], self.n) or not 1 <= len(args[2]) <= 8:
+                return errors.NoArms, {"arms": args[2]}
+            return (errors.Full, {}) if len(self.posts) == 120 else None
+        if arms is None:
+            return errors.NoPost, {}
+        if deed == "widen":
+            if not self.crosses(args[2]) or args[2] in arms:
+                return errors.NoArm, {"arm": args[2]}
+            return (errors.Full, {}) if len(arms) == 8 else None
+        if deed in ("strike", "settle"):
+            if not self.crosses(args[2]) or args[2] not in arms:
+                return errors.NoArm, {"arm": args[2]}
+            if deed == "strike" and len(arms) == 1:
+                return errors.LastArm, {}
+        return None
+
+    def do(self, deed, args, goals=None):
+        """(won, lost), the deed done."""
+        ahead = self.marked()
+        if deed == "back":
+            self.posts, self.word, self.goals = self.was.pop()
+        else:
+            self.was.append((self.posts, self.word, self.goals))
+            self.posts = dict(self.posts)
+            if deed == "turn_to":
+                self.word, self.goals = args[0], goals
+            elif deed == "take":
+                del self.posts[args]
+            else:
+                arms = set(self.posts.get(args[:2], ()))
+                arms = {"put": set(args[2]) if deed == "put" else None, "widen": arms | {args[2]},
+                        "strike": arms - {args[2]}, "settle": {args[2]}}[deed]
+                self.posts[args[:2]] = tuple(sorted(arms))
+        behind = self.marked()
+        return tuple(sorted(behind - ahead)), tuple(sorted(ahead - behind))
+
+
+DEEDS = ("put", "put", "put", "take", "widen", "widen", "strike", "settle", "turn_to", "back")
+
+
+def some_deed(rng, plain, names, deed=None):
+    """A deed by chance, at a post that stands as often as not; some are refused."""
+    deed = deed or rng.choice(DEEDS)
+    if deed == "back":
+        return deed, (), {}
+    if deed == "turn_to":
+        word = tuple(rng.choice(names) for _ in range(rng.randint(0, 5)))
+        goals = tuple(sorted(rng.sample(range(plain.n), rng.randint(0, plain.n))))
+        return deed, (word,), rng.choice(({}, {"goals": None}, {"goals": goals}, {"goals": goals}))
+    spot = rng.randrange(plain.n), rng.choice(names)
+    if deed != "put" and plain.posts and rng.random() < 0.8:
+        spot = rng.choice(sorted(plain.posts))
+    if deed == "take":
+        return deed, spot, {}
+    if deed == "put":
+        arms = rng.sample(range(plain.n), rng.randint(1, min(8, plain.n)))
+        return deed, (*spot, tuple(arms if rng.random() < 0.1 else sorted(arms))), {}
+    arms = plain.posts.get(spot, ())
+    fitting = [arm for arm in range(plain.n) if (arm in arms) != (deed == "widen")]
+    arm = rng.choice(fitting) if fitting and rng.random() < 0.9 else rng.randrange(plain.n + 1)
+    return deed, (*spot, arm), {}
+
+
+def some_value(rng, plain, kind):
+    """A value of this kind by chance, good, nearly good, or of any kind at all."""
+    if rng.random() < 0.2:
+        return rng.choice(odd_things())
+    if kind in ("crossing", "arm"):
+        return rng.randrange(-1, plain.n + 1) if rng.random() < 0.2 else rng.randrange(max(1, plain.n))
+    if kind == "name":
+        return rng.choice(("a", "a", "a", "b", "b", "zzzzzz", "zzzzzzz", "A", ""))
+    if kind == "word":
+        return tuple(rng.choice("ab") for _ in range(rng.choice((0, 1, 2, 12, 12, 13))))
+    size = rng.randint(0, 10)
+    told = [rng.randrange(-1 if rng.random() < 0.1 else 0, plain.n + 1) for _ in range(size)]
+    if rng.random() < 0.8:
+        told = sorted(set(told) & set(range(plain.n)))
+    return tuple(told) if rng.random() < 0.9 else told
+
+
+# Tables
+
+def plain_key(thing):
+    return (type(thing) is str and len(thing) in range(1, 13)
+            and set(thing) <= set("abcdefghijklmnopqrstuvwxyz0123456789"))
+
+
+def plain_table(thing):
+    """Point 34, to the letter."""
+    return type(thing) is tuple and len(thing) <= 200 and all(
+        type(row) is tuple and len(row) == 3 and plain_key(row[0]) and is_plain_name(row[1]) and plain_key(row[2])
+        for row in thing)
+
+
+def plain_table_web(table):
+    keys = sorted({key for row in table for key in (row[0], row[2])})
+    posts = {}
+    for key, name, last in table:
+        posts.setdefault((keys.index(key), name), set()).add(keys.index(last))
+    return make_web(len(keys), posts)
+
+
+def some_table(rng, keys, names, rows):
+    return tuple((rng.choice(keys), rng.choice(names), rng.choice(keys)) for _ in range(rows))
+
+
+def small_tables(many):
+    """Small tables with few keepings, the empty one among them."""
+    rng = random.Random(34)
+    tables = [(), (("a", "a", "a"),), (("b", "a", "a"), ("b", "a", "a")), (("b", "a", "a"), ("b", "a", "b"))]
+    while len(tables) < many:
+        table = some_table(rng, rng.choice((("x", "y"), ("1", "x", "x1"), ("a", "10", "9", "b"))), "ab", rng.randint(1, 9))
+        if len(worlds_of(plain_table_web(table))) <= 64:
+            tables.append(table)
+    return tables
+
+
+def great_tables():
+    """Tables of 200 rows: with 40 KEYs, 120 posts, eight arms, some rows twice."""
+    rng = random.Random(35)
+    keys = [f"{'kqz'[number % 3]}{number}" for number in range(39)] + ["abcdefghij01"]
+    told = []
+    for arms, names in ((8, "abc"), (2, "abc"), (3, "abcdef")):
+        spots = rng.sample(list(itertools.product(keys, names)), 120)
+        rows = [(key, name, rng.choice(keys)) for key, name in spots]
+        for key, name in spots * 2:
+            more = [row for row in rows if row[:2] == (key, name)]
+            if len({last for _, _, last in more}) < arms and len(rows) < 196:
+                rows += [(key, name, last) for last in rng.sample(keys, arms)
+                         if last not in [row[2] for row in more]][:arms - len(more)]
+        rows = rows[:196]
+        rows += rows[:200 - len(rows)]
+        rng.shuffle(rows)
+        told.append(tuple(rows))
+    onward = [(keys[at], name, keys[min(39, at + step)]) for at in range(40) for name in "abc" for step in (1, 2)]
+    told.append(tuple(onward[:200]))
+    told.append(tuple((keys[at], "a", keys[(at + step) % 40]) for at in range(25) for step in range(8)))
+    return told

@@ -41,12 +41,23 @@ CALLS = {
         "asked_places": "(web, world, asker, *, goals=None)", "asked_marks": "(web, asker, *, goals=None)",
         "asked_worst": "(web, asker, *, goals=None)", "shows_asked": "(web, asker, thing, *, goals=None)"},
     "settled": {"unsettled": "(asker)", "asked_somewhere": "(web, asker)"},
+    "beside": {"knows_more": "(one, other)", "narrowed": "(one, other)", "common": "(one, other)"},
+    "leadings": {
+        "is_leading": "(web, other, thing)", "follows": "(web, other)", "led": "(web, other, thing, goals)"},
+    "support": {"support": "(web, word, paper, *, goals=None)", "held_to": "(web, pairs)"},
+    "tables": {"is_table": "(thing)", "keys_of": "(table)", "clashes": "(table)", "web_of": "(table)"},
 }
 
 # Of each class its arguments, and the methods that stand in it.
 CLASSES = {
     "walkers": {"Walker": ("(web, word, crossing, *, place=0, goals=None)", {
         "wants": "(self)", "come": "(self, arm)", "walk": "(self)"})},
+    "yard": {"Yard": ("(n, *, word=(), goals=None)", {
+        "web": "(self)", "its_word": "(self)", "its_goals": "(self)", "marks": "(self)", "worst": "(self)",
+        "answer": "(self, ask)", "put": "(self, crossing, name, arms)", "take": "(self, crossing, name)",
+        "widen": "(self, crossing, name, arm)", "strike": "(self, crossing, name, arm)",
+        "settle": "(self, crossing, name, arm)", "turn_to": "(self, word, *, goals=None)", "back": "(self)",
+        "tried": "(self, look)", "copied": "(self)", "__len__": "(self)", "__eq__": "(self, other)"})},
 }
 
 WEB = (3, ((0, "a", (1, 2)), (1, "b", (2,)), (2, "b", (0, 1))))
@@ -57,7 +68,13 @@ VALUES = {
     "crossing": 0, "name": "a", "world": (1, 2, 0), "start": 0, "goals": (0, 2), "walk": ((0, 1), (1, 2)),
     "thing": ["so", [("a", {"b": [1]})], {"c": [2]}], "ask": ("into", (0, 2)),
     "asker": (3, ((0, "a", 1), (1, "a", 1), (1, "b", 2)), (2,), (("a", (1,)), ("b", (2,)))), "stand": 1,
+    "one": WEB, "other": (3, ((0, "a", (0, 1, 2)), (1, "b", (1, 2)))),
+    "paper": ((0, 2, ("end",)), (2, 2, ("end",))), "pairs": ((0, "a"), (2, "b"), (2, "c")),
+    "table": (("x", "a", "y"), ("x", "a", "x"), ("y", "b", "x"), ("x", "a", "y")),
 }
+
+# Where an argument of that name is of another kind.
+OWN_VALUES = {"led": {"thing": (0, 2, 1)}}
 
 TOLD = (tuple, int, str, bool, type(None))
 
@@ -106,19 +123,20 @@ class TestInterface(unittest.TestCase):
         for name, call in all_calls():
             with self.subTest(name=name):
                 parameters = inspect.signature(call).parameters.values()
-                before = look(VALUES)
-                by_places = [VALUES[one.name] for one in parameters if one.kind == one.POSITIONAL_OR_KEYWORD]
-                alone = {one.name: VALUES[one.name] for one in parameters if one.kind == one.KEYWORD_ONLY}
-                named = {one.name: VALUES[one.name] for one in reversed(list(parameters))}
+                values = {**VALUES, **OWN_VALUES.get(name, {})}
+                before = look(values)
+                by_places = [values[one.name] for one in parameters if one.kind == one.POSITIONAL_OR_KEYWORD]
+                alone = {one.name: values[one.name] for one in parameters if one.kind == one.KEYWORD_ONLY}
+                named = {one.name: values[one.name] for one in reversed(list(parameters))}
                 told = call(*by_places, **alone)
                 self.assertEqual(look(call(**named)), look(told))
                 self.assertEqual(look(call(*by_places, **alone)), look(told))
                 self.assertTrue(only_told_kinds(told))
-                self.assertEqual(look(VALUES), before)
+                self.assertEqual(look(values), before)
 
     def test_truths_are_told_as_truths(self):
         for name, call in all_calls():
-            if name.startswith(("is_", "shows_")):
+            if name.startswith(("is_", "shows_", "knows_")):
                 named = {one: VALUES[one] for one in inspect.signature(call).parameters}
                 self.assertIs(type(call(**named)), bool, name)
 

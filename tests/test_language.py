@@ -30,7 +30,8 @@ WORDS = re.compile(r"\b(type|typing|typing_extensions|enum|Enum|IntEnum|StrEnum|
 
 # Some of these the language has in some spots; the package does without them.
 BARRED = (ast.Global, ast.AsyncFunctionDef, ast.AsyncFor, ast.AsyncWith, ast.Await, ast.Import, ast.Div, ast.Pow,
-          ast.Set, ast.SetComp, ast.GeneratorExp, ast.Try)
+          ast.Set, ast.SetComp, ast.GeneratorExp, ast.Lambda, ast.Match, ast.With, ast.Yield, ast.YieldFrom, ast.NamedExpr,
+          ast.Nonlocal, ast.AnnAssign, ast.TryStar)
 
 
 def trees():
@@ -161,7 +162,39 @@ class TestLanguage(unittest.TestCase):
         for name, node in nodes(ast.FunctionDef):
             self.assertEqual(node.decorator_list, [], name)
             for default in node.args.defaults + [part for part in node.args.kw_defaults if part]:
-                self.assertIsInstance(default, ast.Constant, name)
+                self.assertIsInstance(ast.literal_eval(default), (int, str, tuple, type(None)), name)
+
+    def test_only_own_errors_are_caught(self):
+        own = {node.name for node in ast.parse((PACKAGE / "errors.py").read_text()).body if isinstance(node, ast.ClassDef)}
+        for name, node in nodes(ast.ExceptHandler):
+            self.assertIsInstance(node.type, ast.Name, name)
+            self.assertIn(node.type.id, own, name)
+        for name, node in nodes(ast.Raise):
+            self.assertTrue(isinstance(node.exc, ast.Call) and node.exc.func.id in own and node.cause is None, name)
+            self.assertEqual(node.exc.keywords, [], name)
+
+    def test_a_finally_only_assigns_what_was_there_ahead(self):
+        for name, node in nodes(ast.Try):
+            for part in node.finalbody:
+                self.assertIsInstance(part, ast.Assign, name)
+                for inner in ast.walk(part):
+                    self.assertIsInstance(
+                        inner, (ast.Assign, ast.Tuple, ast.Name, ast.Attribute, ast.Load, ast.Store), name)
+
+    def test_sets_are_only_sorted_or_counted_where_they_are_made(self):
+        made = [node for name, node in nodes(ast.Call) if isinstance(node.func, ast.Name) and node.func.id == "set"]
+        used = [part for name, node in nodes(ast.Call) if isinstance(node.func, ast.Name)
+                and node.func.id in ("sorted", "len") and not node.keywords for part in node.args]
+        self.assertEqual({ast.unparse(node) for node in made} - {ast.unparse(node) for node in used}, set())
+        self.assertEqual(len(made), len([node for node in used if ast.unparse(node).startswith("set(")]))
+
+    def test_double_underscore_methods_end_in_a_plain_return(self):
+        for name, node in nodes(ast.FunctionDef):
+            if node.name in ("__eq__", "__len__"):
+                (told,) = node.body
+                self.assertIsInstance(told, ast.Return, name)
+                if node.name == "__len__":
+                    self.assertTrue(isinstance(told.value, ast.Call) and told.value.func.id == "len", name)
 
     def test_what_a_loop_goes_through_is_not_changed_in_it(self):
         changing = {"append", "clear", "extend", "insert", "pop", "remove", "reverse", "setdefault", "update"}

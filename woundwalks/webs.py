@@ -1,10 +1,22 @@
 """Webs: crossings with posts that have arms; and goals."""
 
-from woundwalks.words import is_below, is_name, is_rising, is_rising_below, is_whole
+from woundwalks.errors import TooMany
+from woundwalks.words import is_below, is_name, is_rising, is_rising_below
 
 MOST_CROSSINGS = 40
 MOST_POSTS = 120
 MOST_ARMS = 8
+
+
+def check_few(many, most):
+    """Refuse more than may be."""
+    if many > most:
+        raise TooMany(many)
+
+
+def is_size(thing):
+    """Whether it can be the number of crossings of a web; of anything."""
+    return is_below(MOST_CROSSINGS + 1, thing)
 
 
 def is_arms(n, thing):
@@ -25,9 +37,7 @@ def is_web(thing):
     if not isinstance(thing, tuple) or len(thing) != 2:
         return False
     n, posts = thing
-    if not is_whole(n) or not 0 <= n <= MOST_CROSSINGS:
-        return False
-    if not isinstance(posts, tuple) or len(posts) > MOST_POSTS:
+    if not is_size(n) or not isinstance(posts, tuple) or len(posts) > MOST_POSTS:
         return False
     if not all([is_post(n, post) for post in posts]):
         return False

@@ -3,6 +3,7 @@
 from woundwalks.errors import NoPlace
 
 LETTERS = "abcdefghijklmnopqrstuvwxyz"
+FIGURES = "0123456789"
 LONGEST_NAME = 6
 LONGEST_ROW = 400
 LONGEST_WORD = 12
