@@ -872,3 +872,11 @@ def great_tables():
     told.append(tuple(onward[:200]))
     told.append(tuple((keys[at], "a", keys[(at + step) % 40]) for at in range(25) for step in range(8)))
     return told
+
+
+def plain_keepings(table):
+    """All keepings, rising: of each (KEY, NAME) one of its rows."""
+    lasts = {}
+    for row in table:
+        lasts.setdefault(row[:2], set()).add(row)
+    return sorted(tuple(sorted(rows)) for rows in itertools.product(*lasts.values()))

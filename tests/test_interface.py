@@ -46,6 +46,13 @@ CALLS = {
         "is_leading": "(web, other, thing)", "follows": "(web, other)", "led": "(web, other, thing, goals)"},
     "support": {"support": "(web, word, paper, *, goals=None)", "held_to": "(web, pairs)"},
     "tables": {"is_table": "(thing)", "keys_of": "(table)", "clashes": "(table)", "web_of": "(table)"},
+    "keepings": {
+        "is_keeping": "(table, thing)", "count_keepings": "(table)", "keeping_at": "(table, number)",
+        "chain": "(table, keeping, key, row)"},
+    "asked": {"asked": "(table, word, ask)", "freed": "(table, word)"},
+    "showing": {"show_row": "(row)", "show_web": "(web)", "show_world": "(world)", "show_paper": "(paper)"},
+    "reading": {
+        "read_row": "(text)", "read_web": "(text)", "read_world": "(text, web)", "read_paper": "(text)"},
 }
 
 # Of each class its arguments, and the methods that stand in it.
@@ -58,6 +65,7 @@ CLASSES = {
         "widen": "(self, crossing, name, arm)", "strike": "(self, crossing, name, arm)",
         "settle": "(self, crossing, name, arm)", "turn_to": "(self, word, *, goals=None)", "back": "(self)",
         "tried": "(self, look)", "copied": "(self)", "__len__": "(self)", "__eq__": "(self, other)"})},
+    "desk": {"Desk": ("(n)", {"say": "(self, line)", "log": "(self)"})},
 }
 
 WEB = (3, ((0, "a", (1, 2)), (1, "b", (2,)), (2, "b", (0, 1))))
@@ -71,10 +79,14 @@ VALUES = {
     "one": WEB, "other": (3, ((0, "a", (0, 1, 2)), (1, "b", (1, 2)))),
     "paper": ((0, 2, ("end",)), (2, 2, ("end",))), "pairs": ((0, "a"), (2, "b"), (2, "c")),
     "table": (("x", "a", "y"), ("x", "a", "x"), ("y", "b", "x"), ("x", "a", "y")),
+    "keeping": (("x", "a", "y"), ("y", "b", "x")), "key": "x",
 }
 
 # Where an argument of that name is of another kind.
-OWN_VALUES = {"led": {"thing": (0, 2, 1)}}
+OWN_VALUES = {
+    "led": {"thing": (0, 2, 1)}, "asked": {"ask": ("among", ("x", "y"))}, "read_row": {"text": "a b"},
+    "read_web": {"text": "2\n0 a 0 1"}, "read_world": {"text": "1 2 0"}, "read_paper": {"text": "0 1 end\n0 0 back 1"},
+}
 
 TOLD = (tuple, int, str, bool, type(None))
 

@@ -80,7 +80,12 @@ class TestLanguage(unittest.TestCase):
                 if isinstance(node, ast.Assign):
                     self.assertEqual(len(node.targets), 1, path.name)
                     self.assertIsInstance(node.targets[0], ast.Name, path.name)
-                    ast.literal_eval(node.value)
+                    above = {one.name for one in tree.body[:number] if isinstance(one, ast.FunctionDef)}
+                    if isinstance(node.value, ast.Dict) and isinstance(node.value.values[0], ast.Name):
+                        self.assertLessEqual({one.id for one in node.value.values}, above, path.name)
+                        self.assertTrue(all(isinstance(one, ast.Constant) for one in node.value.keys), path.name)
+                    else:
+                        ast.literal_eval(node.value)
                 elif isinstance(node, ast.Expr):
                     self.assertEqual(number, 0, path.name)
                     self.assertIsInstance(node.value.value, str, path.name)

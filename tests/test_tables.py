@@ -5,7 +5,7 @@ import random
 import unittest
 
 from tests.helper import (
-    great_tables, look, odd_things, plain_key, plain_table, plain_table_web, plain_web, small_tables, spoilt)
+    great_tables, look, odd_things, plain_table, plain_table_web, plain_web, small_tables, spoilt)
 from woundwalks.errors import TooMany, WalkError
 from woundwalks.marks import marks
 from woundwalks.tables import clashes, is_table, keys_of, web_of
@@ -188,9 +188,6 @@ class TestOfTables(unittest.TestCase):
         self.assertEqual(keys, ("leaf", "left", "right", "root"))
         self.assertEqual([(keys[crossing], place) for crossing, place in marks(web, ("next", "end"), goals=(0,))],
                          [("leaf", 2), ("left", 1), ("right", 1), ("root", 0)])
-
-    def test_plain_keys(self):
-        self.assertTrue(plain_key("a1") and not plain_key("a" * 13))
 
 
 if __name__ == "__main__":

@@ -34,6 +34,11 @@ def keys_of(table):
     return tuple(sorted(set([key for first, name, last in table for key in (first, last)])))
 
 
+def key_numbers(table):
+    """Of each KEY its number in their order, which is its crossing in the table's web."""
+    return {key: number for number, key in enumerate(keys_of(table))}
+
+
 def last_keys(table):
     """Of each (KEY, NAME), rising, the rising tuple of its last KEYs."""
     found = {}
@@ -49,14 +54,13 @@ def clashes(table):
 
 def web_of(table):
     """The web with a crossing for each KEY, by their order, and a post for each (KEY, NAME)."""
-    known = keys_of(table)
+    numbers = key_numbers(table)
     claimed = last_keys(table)
-    check_few(len(known), MOST_CROSSINGS)
+    check_few(len(numbers), MOST_CROSSINGS)
     check_few(len(claimed), MOST_POSTS)
     for lasts in claimed.values():
         check_few(len(lasts), MOST_ARMS)
-    numbers = {key: number for number, key in enumerate(known)}
     posts = []
     for (key, name), lasts in claimed.items():
         posts.append((numbers[key], name, tuple([numbers[last] for last in lasts])))
-    return (len(known), tuple(posts))
+    return (len(numbers), tuple(posts))
