@@ -113,6 +113,17 @@ class TestAsked(unittest.TestCase):
         self.assertEqual(asked(table, ("a",), ("among", ("a1", "b"))), ("sure", "a1"))
         self.assertEqual(asked(table, ("a", "a"), ("into", ("10", "b"))), ("sure", "10"))
 
+    def test_keys_that_are_called_as_asks_are(self):
+        keys = ("among", "from", "into", "somewhere")
+        table = tuple((key, "a", last) for key in keys[1:] for last in keys[1:3]) + (("into", "b", "among"),)
+        self.assertEqual(asked(table, ("a",), ("from", "somewhere")), ("sure", "somewhere"))
+        self.assertEqual(asked(table, ("a",), ("from", "among"))[0], "not")
+        self.assertEqual(asked(table, ("a",), ("among", ("among", "into"))), ("sure", "into"))
+        self.assertEqual(asked(table, ("b",), ("into", ("among",))), ("sure", "into"))
+        self.assertEqual(asked(table, ("a",), ("somewhere",)), ("sure", "from"))
+        for word, ask in itertools.product((("a",), ("b",), ("a", "b")), asks_of(table)):
+            self.check(table, word, ask)
+
     def test_asks_with_no_keys(self):
         for table in small_tables(60):
             for word in ((), ("a",), ("a", "b")):

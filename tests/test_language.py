@@ -169,6 +169,11 @@ class TestLanguage(unittest.TestCase):
             for default in node.args.defaults + [part for part in node.args.kw_defaults if part]:
                 self.assertIsInstance(ast.literal_eval(default), (int, str, tuple, type(None)), name)
 
+    def test_stars_stand_in_no_index_and_no_call(self):
+        for name, node in nodes((ast.Subscript, ast.Call)):
+            inner = ast.walk(node.slice) if isinstance(node, ast.Subscript) else node.args
+            self.assertFalse(any(isinstance(part, ast.Starred) for part in inner), (name, node.lineno))
+
     def test_only_own_errors_are_caught(self):
         own = {node.name for node in ast.parse((PACKAGE / "errors.py").read_text()).body if isinstance(node, ast.ClassDef)}
         for name, node in nodes(ast.ExceptHandler):

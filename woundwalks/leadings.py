@@ -46,9 +46,10 @@ def arm_needs(web, other):
     needed_by = {}
     for both, arms, others in like_posts(web, other):
         for d in arms:
-            left[(*both, d)] = len(others)
+            need = (*both, d)
+            left[need] = len(others)
             for g in others:
-                needed_by.setdefault((d, g), []).append((*both, d))
+                needed_by.setdefault((d, g), []).append(need)
     return left, needed_by
 
 

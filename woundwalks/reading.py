@@ -69,6 +69,7 @@ def post_from(texts):
 
 def check_web(n, posts):
     """Refuse the first row by which it is no web, the rows ahead of it being one."""
+    # Looked at first as a whole, for a web has no such row to be sought.
     if is_web((n, posts)):
         return
     for many in range(len(posts) + 1):
